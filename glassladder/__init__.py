@@ -1,0 +1,1 @@
+"""Glassladder: real machines, sayings about them, and smaller machines that show why."""

@@ -1,0 +1,57 @@
+"""Every name of the interface stands in its file, with its arguments and what they are left out for."""
+
+import importlib
+import inspect
+import pathlib
+import unittest
+
+FOLDER = pathlib.Path(__file__).resolve().parent.parent / "glassladder"
+CONSTANTS = {"shares": {"NOUGHT": (0, 1), "ONE": (1, 1)}}
+FUNCTIONS = {
+    "shares": {
+        "is_share": "(thing)", "share": "(top, bottom=1)", "plus": "(one, other)", "minus": "(one, other)",
+        "times": "(one, other)", "over": "(one, other)", "less": "(one, other)", "total": "(some, *, start=(0, 1))",
+    },
+    "lines": {
+        "is_name": "(thing)", "is_line": "(thing)", "line_of": "(plain=(0, 1), parts=())", "line_plus": "(one, other)",
+        "line_minus": "(one, other)", "line_times": "(line, by)", "put": "(line, name, other)",
+        "all_put": "(line, others)", "worth": "(line, numbers)", "names_of": "(line)",
+    },
+    "granting": {
+        "is_wish": "(thing)", "granted": "(wish, numbers)", "told": "(wishes)", "bars": "(wishes, thing)",
+        "can_be": "(wishes)", "follows": "(wishes, wish)", "contraries": "(wish)", "put_all": "(wish, sets)",
+    },
+}
+CLASSES = {}
+
+
+def module(stem):
+    return importlib.import_module("glassladder." + stem)
+
+
+class Interface(unittest.TestCase):
+    def test_constants(self):
+        for stem, constants in CONSTANTS.items():
+            for name, value in constants.items():
+                self.assertEqual(getattr(module(stem), name), value)
+                self.assertIn(f"\n{name} = ", (FOLDER / f"{stem}.py").read_text())
+
+    def test_functions(self):
+        for stem, functions in FUNCTIONS.items():
+            for name, arguments in functions.items():
+                one = getattr(module(stem), name)
+                self.assertTrue(inspect.isfunction(one), name)
+                self.assertEqual(one.__module__, "glassladder." + stem)
+                self.assertEqual(str(inspect.signature(one)), arguments, name)
+
+    def test_classes(self):
+        for (stem, owner), methods in CLASSES.items():
+            one = getattr(module(stem), owner)
+            self.assertEqual(one.__module__, "glassladder." + stem)
+            for name, arguments in methods.items():
+                self.assertIn(name, vars(one), owner)
+                self.assertEqual(str(inspect.signature(vars(one)[name])), arguments, (owner, name))
+
+
+if __name__ == "__main__":
+    unittest.main()
