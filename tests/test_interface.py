@@ -21,8 +21,22 @@ FUNCTIONS = {
         "is_wish": "(thing)", "granted": "(wish, numbers)", "told": "(wishes)", "bars": "(wishes, thing)",
         "can_be": "(wishes)", "follows": "(wishes, wish)", "contraries": "(wish)", "put_all": "(wish, sets)",
     },
+    "systems": {"look_at_system": "(thing)", "deeds_of": "(system)", "begin_places": "(system)"},
+    "steps": {
+        "is_places": "(system, thing)", "is_step": "(system, thing)", "steps_from": "(system, places)",
+        "wishes_of": "(system, step)", "sets_of": "(system, step)", "behind": "(system, places, step)",
+        "reads_of": "(system, step)", "can_stand": "(system, places, step)",
+    },
+    "sayings": {"look_at_saying": "(system, thing)", "atoms_of": "(saying)"},
+    "rounds": {"holds": "(saying, thing)"},
 }
-CLASSES = {}
+CLASSES = {
+    ("real", "Real"): {
+        "__init__": "(self, system, numbers)", "do": "(self, step, *, reads=None)", "back": "(self)", "stand": "(self)",
+        "granted": "(self)", "done": "(self)", "system": "(self)", "twin": "(self)", "__len__": "(self)",
+        "__eq__": "(self, other)",
+    },
+}
 
 
 def module(stem):

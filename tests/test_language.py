@@ -11,14 +11,16 @@ FILES = sorted(FOLDER.glob("*.py"))
 SOURCES = {path.stem: path.read_text(encoding="utf-8") for path in FILES}
 TREES = {stem: ast.parse(source) for stem, source in SOURCES.items()}
 FUNCTIONS = (ast.FunctionDef, ast.Lambda)
-BUILTINS = """len range enumerate zip min max sum abs sorted reversed int str bool bytes list tuple dict set frozenset
-isinstance ord repr any all divmod iter next Exception ValueError TypeError KeyError IndexError LookupError
+BUILTINS = """len range enumerate zip min max sum abs sorted reversed int str bool bytes list tuple dict set
+frozenset isinstance ord repr any all divmod iter next Exception ValueError TypeError KeyError IndexError LookupError
 ZeroDivisionError ArithmeticError OverflowError RuntimeError NotImplementedError AttributeError StopIteration
 NotImplemented super property staticmethod classmethod""".split()
-METHODS = """append clear copy count endswith extend find get index insert isalnum isalpha isdigit islower isspace isupper
-items join keys ljust lower lstrip partition pop remove replace reverse rfind rjust rpartition rsplit rstrip setdefault
-split splitlines startswith strip update upper values zfill bit_length title capitalize swapcase casefold center
-expandtabs removeprefix removesuffix rindex isascii isdecimal isnumeric istitle isidentifier isprintable add discard
+METHODS = """
+append clear copy count endswith extend find get index insert isalnum isalpha isdigit islower isspace
+isupper items join keys ljust lower lstrip partition pop remove replace reverse rfind rjust rpartition
+rsplit rstrip setdefault split splitlines startswith strip update upper values zfill bit_length title
+capitalize swapcase casefold center expandtabs removeprefix removesuffix rindex isascii isdecimal
+isnumeric istitle isidentifier isprintable add discard
 """.split()
 DUNDERS = "__init__ __eq__ __repr__ __str__ __len__".split()
 BARRED_WORDS = """type typing typing_extensions enum Enum IntEnum StrEnum Flag IntFlag Generic Protocol ABC ABCMeta

@@ -37,7 +37,8 @@ class Names(unittest.TestCase):
 
 class IsLine(unittest.TestCase):
     def test_lines(self):
-        for one in (((0, 1), ()), ((-3, 2), (("x", (1, 1)),)), ((0, 1), (("a", (1, 2)), ("ab", (1, 1)), ("b", (-1, 1))))):
+        for one in (((0, 1), ()), ((-3, 2), (("x", (1, 1)),)),
+                    ((0, 1), (("a", (1, 2)), ("ab", (1, 1)), ("b", (-1, 1))))):
             self.assertIs(is_line(one), True, one)
 
     def test_no_lines(self):
@@ -144,7 +145,8 @@ class Reckoned(unittest.TestCase):
         chance = chance_of(4)
         for _ in range(200):
             one, other = some_line(chance), some_line(chance)
-            for come_to in (line_plus(one, other), line_minus(one, other), line_times(one, (2, 3)), put(one, "x", other)):
+            for come_to in (line_plus(one, other), line_minus(one, other), line_times(one, (2, 3)),
+                            put(one, "x", other)):
                 self.assertIs(is_line(come_to), True)
 
 

@@ -7,7 +7,7 @@ from glassladder.granting import bars, can_be, contraries, follows, told
 from glassladder.lines import line_of
 from glassladder.shares import NOUGHT, ONE, is_share, share
 from tests.samples import (
-    above, anything_but, as_fraction, as_share, chance_of, is_barred_by, is_granted, just, least, line, some_wishes,
+    above, anything_but, as_fraction, as_share, chance_of, is_barred_by, is_granted, just, least, some_wishes,
 )
 
 EDGE = [least(-1, x=1), least(1, x=-1)]
@@ -97,6 +97,9 @@ class Told(TellsRightly):
         quick = solving.QUICK
         solving.QUICK = 0
         try:
+            # Here the scale itself comes to be the row that can't be.
+            self.assertEqual(self.check([above(Fraction(-53, 10), a=-1, b=2), above(Fraction(9, 2), a=-2, b=-1),
+                                         just(-7, a=2, b=2), above(0, a=2, b=-1)]), "barred")
             chance = chance_of(22)
             for _ in range(200):
                 near = chance.choice((1, 0.9))

@@ -16,8 +16,9 @@ class IsWish(unittest.TestCase):
             self.assertIs(is_wish(one), True)
 
     def test_no_wishes(self):
-        others = [("most", line(0)), ("least",), ("least", line(0), line(0)), ["least", line(0)], ("least", [(0, 1), ()]),
-                  ("Least", line(0)), (None, line(0)), ([], line(0)), ("least", None), (("least",), line(0)), line(0),
+        others = [("most", line(0)), ("least",), ("least", line(0), line(0)), ["least", line(0)],
+                  ("least", [(0, 1), ()]), ("Least", line(0)), (None, line(0)), ([], line(0)), ("least", None),
+                  (("least",), line(0)), line(0),
                   ("least", line_of(ONE, {"x'": ONE})), ("least", ((0, 2), ())), ("", line(0)), (True, line(0))]
         for thing in others + anything_but():
             self.assertIs(is_wish(thing), False, thing)
@@ -26,8 +27,9 @@ class IsWish(unittest.TestCase):
 class Granted(unittest.TestCase):
     def test_at_and_near_and_far(self):
         one = line(-3, x=1)
-        for number, worths in ((3, (True, False, True)), (3 + NEAR, (True, True, False)), (3 - NEAR, (False, False, False)),
-                               (10 ** 50, (True, True, False)), (-10 ** 50, (False, False, False))):
+        for number, worths in ((3, (True, False, True)), (3 + NEAR, (True, True, False)),
+                               (3 - NEAR, (False, False, False)), (10 ** 50, (True, True, False)),
+                               (-10 ** 50, (False, False, False))):
             numbers = {"x": as_share(number)}
             self.assertEqual(tuple(granted((word, one), numbers) for word in ("least", "above", "just")), worths)
 
