@@ -48,15 +48,39 @@ def rows_from(machine, place, deed):
     return [number for number in numbers if machine[2][number][0] == place]
 
 
+def one_of_each(lists):
+    """All tuples with one of each list, the first one's changing last."""
+    chosen = [()]
+    for some in lists:
+        chosen = [ahead + (one,) for ahead in chosen for one in some]
+    return chosen
+
+
+def rest_of(system):
+    """The step `rest`."""
+    return (REST, tuple([None for machine in system[2]]))
+
+
+def steps_at_of(system, places, deed):
+    """The steps of a deed from the places, by rows' numbers."""
+    numbers = [rows_from(machine, place, deed) for machine, place in zip(system[2], places)]
+    return [(deed, rows) for rows in one_of_each(numbers)]
+
+
 def steps_at(system, places):
     """The steps from the places: `rest`, then by deeds, then by rows' numbers."""
-    machines = system[2]
-    steps = [(REST, tuple([None for machine in machines]))]
-    for deed in deeds_in(machines):
-        chosen = [()]
-        for machine, place in zip(machines, places):
-            chosen = [rows + (number,) for rows in chosen for number in rows_from(machine, place, deed)]
-        steps.extend([(deed, rows) for rows in chosen])
+    steps = [rest_of(system)]
+    for deed in deeds_in(system[2]):
+        steps.extend(steps_at_of(system, places, deed))
+    return steps
+
+
+def all_steps(system):
+    """The steps from any places: `rest`, then by deeds, then by rows' numbers."""
+    steps = [rest_of(system)]
+    for deed in deeds_in(system[2]):
+        numbers = [rows_with(machine, deed) or [None] for machine in system[2]]
+        steps.extend([(deed, rows) for rows in one_of_each(numbers)])
     return steps
 
 

@@ -1,7 +1,7 @@
 """Sayings: how all runs of a system should go on."""
 
 from glassladder.errors import NoSaying
-from glassladder.systems import REST, deeds_in, is_wish_over, look_at_system
+from glassladder.systems import REST, deeds_in, is_loose_wish, look_at_system
 
 YES = ("yes",)
 ATOMS = ("place", "deed", "wish")
@@ -24,7 +24,7 @@ def is_deed_atom(system, thing):
 
 def is_wish_atom(system, thing):
     """Whether a tuple has a wish over boxes that is no `just`."""
-    return len(thing) == 2 and is_wish_over(system[0], thing[1]) and thing[1][0] != "just"
+    return len(thing) == 2 and is_loose_wish(system[0], thing[1])
 
 
 def is_atom(system, thing):
@@ -69,3 +69,11 @@ def atoms_of(saying):
     for half in saying[1:]:
         atoms.extend([atom for atom in atoms_of(half) if atom not in atoms])
     return atoms
+
+
+def is_so_at(system, atom, places, step):
+    """Whether an atom of a place or a deed is so at places, where the step is done."""
+    if atom[0] == "deed":
+        return step[0] == atom[1]
+    names = [name for name, all_places, rows in system[2]]
+    return places[names.index(atom[1])] == atom[2]

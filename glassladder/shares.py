@@ -11,6 +11,11 @@ def is_whole(thing):
     return isinstance(thing, int) and not isinstance(thing, bool)
 
 
+def is_below(thing, many):
+    """Whether anything is a whole number from 0 on that is below many."""
+    return is_whole(thing) and 0 <= thing < many
+
+
 def divisor(one, other):
     """The greatest number that divides both, and nought of two noughts."""
     one = abs(one)

@@ -38,6 +38,11 @@ def is_wish_over(boxes, thing):
     return is_wish(thing) and is_line_over(boxes, thing[1])
 
 
+def is_loose_wish(boxes, thing):
+    """Whether anything is a wish over boxes that is no `just`."""
+    return is_wish_over(boxes, thing) and thing[0] != "just"
+
+
 def are_wishes_over(boxes, thing, most):
     """Whether anything is a tuple of at most so many wishes over boxes."""
     return is_tuple_of(thing, 0, most) and all([is_wish_over(boxes, wish) for wish in thing])

@@ -6,7 +6,7 @@ import pathlib
 import unittest
 
 FOLDER = pathlib.Path(__file__).resolve().parent.parent / "glassladder"
-CONSTANTS = {"shares": {"NOUGHT": (0, 1), "ONE": (1, 1)}}
+CONSTANTS = {"shares": {"NOUGHT": (0, 1), "ONE": (1, 1)}, "drifting": {"MOST_LAPS": 1000}}
 FUNCTIONS = {
     "shares": {
         "is_share": "(thing)", "share": "(top, bottom=1)", "plus": "(one, other)", "minus": "(one, other)",
@@ -29,6 +29,23 @@ FUNCTIONS = {
     },
     "sayings": {"look_at_saying": "(system, thing)", "atoms_of": "(saying)"},
     "rounds": {"holds": "(saying, thing)"},
+    "drifting": {
+        "is_run": "(system, thing)", "counts": "(system, run)", "letters_of": "(system, run, atoms)",
+    },
+    "forms": {
+        "normal_form": "(saying)", "contrary_form": "(saying)", "untils_in": "(form)", "ways": "(lot, untils)",
+    },
+    "made": {
+        "machine_of": "(saying)", "paper_of": "(saying)", "is_paper": "(saying, machine, thing)",
+        "takes": "(machine, thing)",
+    },
+    "whys": {
+        "is_why": "(entries, ties, many, thing)", "sought": "(count, begins, ties, many)",
+        "pieces": "(entries, ties)",
+    },
+    "joined": {
+        "conditions": "(system, saying, places, stand, wishes, step, n)", "set_by": "(system, step)",
+    },
 }
 CLASSES = {
     ("real", "Real"): {
