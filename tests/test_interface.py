@@ -46,6 +46,16 @@ FUNCTIONS = {
     "joined": {
         "conditions": "(system, saying, places, stand, wishes, step, n)", "set_by": "(system, step)",
     },
+    "looker": {
+        "look_at_joined": "(system, saying, thing)", "is_joined": "(system, saying, thing)",
+        "is_asked_so": "(system, saying, paper, entry, step, n)", "is_why_so": "(system, saying, paper)",
+    },
+    "rungs": {
+        "is_rung": "(thing)", "led_places": "(rung, places)", "led_step": "(rung, step)", "is_shown": "(rung, saying)",
+        "led_saying": "(rung, saying)",
+    },
+    "unasked": {"unasked": "(system, saying)"},
+    "together": {"together": "(system, saying)"},
 }
 CLASSES = {
     ("real", "Real"): {
