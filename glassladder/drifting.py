@@ -88,10 +88,10 @@ def are_kept_up(system, moves, stands, later):
     ])
 
 
-def is_again(stands, later):
-    """Whether the lap leads back to its places, and its numbers are more by the same behind each lap."""
-    begin, end, behind = stands[0], stands[-1], later[-1]
-    return begin[0] == end[0] and numbers_less(end[1], begin[1]) == numbers_less(behind[1], end[1])
+def is_drifting(stands, later):
+    """Whether the numbers are more by the same behind the first lap and the second one."""
+    begin, end, behind = stands[0][1], stands[-1][1], later[-1][1]
+    return numbers_less(end, begin) == numbers_less(behind, end)
 
 
 def course_of(system, thing):
@@ -108,7 +108,7 @@ def course_of(system, thing):
     if first is None or first[-1][0] != first[0][0] or not are_granted(system, lap, first):
         return None
     second = stands_along(system, first[-1], lap, 1)
-    if not is_again(first, second) or not are_kept_up(system, lap, first, second):
+    if not is_drifting(first, second) or not are_kept_up(system, lap, first, second):
         return None
     return (ahead, first, second)
 

@@ -11,6 +11,7 @@ from glassladder.sayings import atoms_of
 from glassladder.steps import can_stand
 from tests.machines import SYSTEM, with_machine, with_part
 from tests.papers import Table, all_places, atoms_over, rounds_of, some_saying_over, some_small_system, with_item
+from tests.runs import some_drifting_system, some_run
 from tests.samples import above, anything_but, chance_of, just, least, line
 
 NONE, BARRED = ("none",), ("barred",)
@@ -185,6 +186,13 @@ class Forms(Joined):
                       (("shut",), 0, (), ()), [("shut",), 0, ()], (("shut",), 0, (None,)), (("shut",), 0, (X,)),
                       (("door",), 0, ()), ((True,), 0, ())):
             self.form(with_part(DOOR_PAPER, 0, with_item(DOOR_ENTRIES, 0, entry)))
+
+    def test_places_of_several_machines(self):
+        good = ((None, None, None), 0, ())
+        self.assertIsNone(look_at_joined(SYSTEM, ("yes",), ([good], ("to", 0), [[]], NONE)))
+        for places in (("low", None, "off"), ("off", None, None), (None, "low", None), (None, None, True), (None, None),
+                       (None, None, None, None), ("low", "off", "off"), ("low", "low", "here")):
+            self.form(([good, (places, 0, ())], ("to", 0), [[], []], NONE), SYSTEM, ("yes",))
 
     def test_wishes_of_entries(self):
         for wishes in ((just(0, x=1),), (X, just(0)), (least(0, y=1),), (("least", ((0, 1), (("x'", (1, 1)),))),), [X],
@@ -630,6 +638,36 @@ class ByChance(Joined):
                 self.assertIs(is_asked_so(system, saying, less, at, step, n), False)
                 other = (entries, begin, with_item(leads, at, with_item(some, number, (step, n, BARRED))), why)
                 self.wrong(system, saying, other, ("lead", at, step, n))
+
+    def test_papers_of_systems_with_boxes(self):
+        # Whatever is let by holds on real runs that count, numbers that never come again included.
+        chance = chance_of(174)
+        let_by, looked, broken = 0, 0, 0
+        for _ in range(160):
+            system = some_drifting_system(chance)
+            wishes = [(chance.choice(("least", "above")), line(chance.randint(-3, 3), **{
+                chance.choice(system[0]): chance.choice((1, -1))})) for _ in range(2)]
+            atoms = [("wish", wish) for wish in wishes] * 3 + atoms_over(system)
+            saying = some_saying_over(chance, atoms, 3)
+            through = [atom[1] for atom in atoms_of(saying) if atom[0] == "wish"]
+            table = Table(system, saying, tuple(through))
+            holds_so = is_joined(system, saying, table.paper() or table.paper(("lot", 0)))
+            self.assertIs(holds_so, table.paper() is not None)
+            whole = len(table.entries)
+            for rank in (line(3, x=1), line(0, x=-1)):
+                for n in range(table.many()):
+                    why = ("rank", (rank,) * whole, ("lot", n))
+                    holds_so = is_joined(system, saying, table.paper(why)) or holds_so
+            let_by += holds_so
+            for run in [some_run(chance, system) for _ in range(25)]:
+                if is_run(system, run) and counts(system, run):
+                    truth = holds(saying, letters_of(system, run, atoms_of(saying)))
+                    self.assertTrue(truth or not holds_so, (system, saying, run))
+                    looked += holds_so
+                    broken += not truth
+        self.assertGreater(let_by, 20)
+        self.assertGreater(looked, 50)
+        self.assertGreater(broken, 50)
 
     def test_papers_of_other_systems(self):
         # A paper of a system in which a row is another one: let by or not, what it lets by holds.

@@ -123,6 +123,27 @@ class Papers(unittest.TestCase):
             for choices in ((), (((), 2, (0,)),), ((((0, True),), 2, (0,)),)):
                 self.assertIs(is_paper(AGAIN, ((first, second, choices), many), paper + (lot,)), False, lot)
 
+    def test_lots_that_would_have_ways(self):
+        # The choice would be right, if there were such a lot.
+        (first, second), many = machine_of(AGAIN)
+        machine = ((first, second, (((), 3, (0,)),), (((), 3, (0,)),)), many)
+        for lot in ((YES,), (("and", YES, YES),), ()):
+            self.assertIs(is_paper(AGAIN, machine, paper_of(AGAIN) + (lot, ())), True, lot)
+        for lot in ((("and", YES),), (("and", YES, YES, YES),), (YES, YES), (("and",),), (("yes", YES),),
+                    (("and", YES, YES), ("and", YES, YES)), (YES, ("and", YES, YES)), [YES]):
+            self.assertIs(is_paper(AGAIN, machine, paper_of(AGAIN) + (lot, ())), False, lot)
+        self.assertIs(is_paper(AGAIN, ((), 1), ()), False)
+
+    def test_asks_and_kept_of_anything(self):
+        (first, second), many = machine_of(AGAIN)
+        asks, to, kept = second[0]
+        for thing in anything_but():
+            for choice in (((thing,), to, kept), (asks + (thing,), to, kept), ((thing,) + asks, to, kept),
+                           (((0, False, thing),), to, kept), (((0, thing),), to, kept), (((thing, False),), to, kept),
+                           (asks, to, (0, thing)), (asks, to, (thing,)), (asks, thing, kept)):
+                if choice not in second or repr(choice) != repr(second[0]):
+                    self.assertIs(is_paper(AGAIN, ((first, (choice,)), many), paper_of(AGAIN)), False, choice)
+
     def test_one_thing_put_otherwise(self):
         (first, second), many = machine_of(AGAIN)
         paper = paper_of(AGAIN)

@@ -254,6 +254,12 @@ class OfAnything(unittest.TestCase):
             if thing is not None:
                 self.no_rung(with_part(MORE, 3, (led, thing)))
 
+    def test_places_that_nothing_leads_to(self):
+        upper = with_machine(UPPER, 0, with_part(MACHINE, 1, ("a", "b", "c", "z")))
+        for pair, truth in ((("z", "a"), True), (("z", "b"), True), (("z", "z"), False), (("z", "c"), False),
+                            (("z", "a", "a"), False), (("z",), False), (("y", "a"), False), (["z", "a"], False)):
+            self.assertIs(is_rung(("more", upper, LOWER, ((0, MEANING[0][1] + (pair,)), None))), truth, pair)
+
     def test_two_upper_machines_led_to_one(self):
         upper = with_part(UPPER, 2, (MACHINE, ("n", ("a", "b", "c"), ())))
         self.no_rung(("more", upper, LOWER, (MEANING[0], MEANING[0])))

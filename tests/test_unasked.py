@@ -146,6 +146,12 @@ class Unasked(unittest.TestCase):
         self.assertEqual(self.kept(system, ("deed", "go")), (["one", "two"], ["x", "y"]))
         self.assertEqual(self.kept(system, ("deed", "take")), (["two"], ["y"]))
 
+    def test_machines_called_as_deeds(self):
+        system = ((), (), (machine("one", ("two", (), ())), machine("two", ("three", (), ()))), ())
+        self.assertEqual(self.kept(system, ("deed", "two")), (["one"], []))
+        self.assertEqual(self.kept(system, ("deed", "three")), (["two"], []))
+        self.assertEqual(self.kept(system, ("place", "two", "a")), (["two"], []))
+
     def test_lines_of_boxes_that_are_not_kept(self):
         system = (("x", "y"), (), (machine("one", ("go", (), (("x", line(0, y=1)),))),), ())
         self.assertEqual(self.kept(system, ("deed", "go")), (["one"], []))
