@@ -8,16 +8,18 @@ from glassladder.sayings import atoms_of, is_so_at
 from glassladder.shares import NOUGHT, ONE
 
 
+def wishes_asked(atoms, asks):
+    """The wishes of the asks, contraries where they should be False."""
+    some = [(atoms[n][1], truth) for n, truth in asks if atoms[n][0] == "wish"]
+    return [one for wish, truth in some for one in ([wish] if truth else contraries(wish))]
+
+
 def known_by(system, atoms, asks, places, wishes, step):
     """The wishes, the step's and those of the asks; None where an ask of a place or a deed isn't so."""
-    known = list(wishes) + wishes_done(system, step)
     for n, truth in asks:
-        atom = atoms[n]
-        if atom[0] == "wish":
-            known.extend([atom[1]] if truth else contraries(atom[1]))
-        elif is_so_at(system, atom, places, step) != truth:
+        if atoms[n][0] != "wish" and is_so_at(system, atoms[n], places, step) != truth:
             return None
-    return known
+    return list(wishes) + wishes_done(system, step) + wishes_asked(atoms, asks)
 
 
 def conditions(system, saying, places, stand, wishes, step, n):

@@ -109,13 +109,18 @@ def is_begin_so(ground, paper):
     return all([is_end_so(memory, paper[0], end, {}, first_places(system), 0) for end in ends])
 
 
+def places_asked(system, entry_places):
+    """All places that fit those of an entry, as they stand in their machines, the first machine's changing last."""
+    parts = list(zip(entry_places, system[2]))
+    return one_of_each([[place] if place is not None else list(machine[1]) for place, machine in parts])
+
+
 def asks_at(ground, entry):
     """What is asked at an entry, tuples (places, step, n, known), by places that fit, then steps, then choices."""
     system, atoms, machine, memory = ground
     entry_places, stand, wishes = entry
-    some = [[place] if place is not None else list(one[1]) for place, one in zip(entry_places, system[2])]
     asks = []
-    for places in one_of_each(some):
+    for places in places_asked(system, entry_places):
         for step in steps_at(system, places):
             for n, choice in enumerate(machine[0][stand]):
                 known = known_by(system, atoms, choice[0], places, wishes, step)

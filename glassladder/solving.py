@@ -232,6 +232,13 @@ def is_solvable(wishes):
     return searched(wishes, names_in(wishes), bottoms)[1] is None
 
 
+def witness_of(wishes):
+    """Numbers that grant all the wishes, or None."""
+    names = names_in(wishes)
+    tableau, key = searched(wishes, names, [common_bottom(line) for word, line in wishes])
+    return granting_numbers(tableau, names) if key is None else None
+
+
 def solved(wishes):
     """("numbers", numbers) by which all the wishes are granted, or ("barred", shares) that bar them."""
     names = names_in(wishes)

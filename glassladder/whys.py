@@ -172,13 +172,13 @@ def first_lacking(ties, inner, many):
     return None
 
 
-def inner_numbers(ties, parts):
-    """For each part the numbers of the ties from it to itself."""
-    homes = {entry: number for number, part in enumerate(parts) for entry in part}
+def inner_numbers(ties, numbers, parts):
+    """For each part those of the numbers of ties that lead from it to itself."""
+    homes = {entry: at for at, part in enumerate(parts) for entry in part}
     inner = [[] for part in parts]
-    for number, tie in enumerate(ties):
-        home = homes.get(tie[0])
-        if home is not None and home == homes.get(tie[1]):
+    for number in numbers:
+        home = homes.get(ties[number][0])
+        if home is not None and home == homes.get(ties[number][1]):
             inner[home].append(number)
     return inner
 
@@ -193,10 +193,11 @@ def told_lap(came_by, ties, part, inner, many):
 
 def sought(count, begins, ties, many):
     """("lap", stem, lap), numbers of ties, with all lots in the lap; or ("why", why) of all entries come to."""
-    came_by = come_to_by(begins, ties, numbers_by_starts(list(range(count)), ties, list(range(len(ties)))))
+    numbers = list(range(len(ties)))
+    came_by = come_to_by(begins, ties, numbers_by_starts(list(range(count)), ties, numbers))
     parts = pieces(sorted(list(came_by)), ties)
     told = []
-    for part, inner in zip(parts, inner_numbers(ties, parts)):
+    for part, inner in zip(parts, inner_numbers(ties, numbers, parts)):
         lot = first_lacking(ties, inner, many)
         if inner and lot is None:
             return told_lap(came_by, ties, part, inner, many)

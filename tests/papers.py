@@ -49,7 +49,10 @@ class Table:
                 fan = self.fan(known, set_by(self.system, step), behind(self.system, places, step), to)
                 here.append((step, n, fan))
                 fair = tuple(self.machine[1] + k for k, deed in enumerate(self.system[3]) if deed == step[0])
-                self.ties.extend((number, end, kept + fair, step, n) for end in tos(fan))
+                sets = set_by(self.system, step)
+                self.ties.extend((number, end, kept + fair, step, n,
+                                  known + [put_all(wish, sets) for wish in self.entries[end][2]], sets)
+                                 for end in tos(fan))
         self.leads.append(here)
 
     def many(self):

@@ -3,7 +3,7 @@
 from fractions import Fraction
 
 from tests.machines import some_system, with_part
-from tests.samples import as_fraction, as_share, is_granted, worth_of
+from tests.samples import as_fraction, as_share, is_granted, least, line, worth_of
 
 
 def rest_of(system):
@@ -153,3 +153,19 @@ def some_plain_run(chance):
     system = with_part(with_part(some_system(chance), 1, ()), 3, ())
     numbers = tuple((box, as_share(chance.randint(-5, 5))) for box in system[0])
     return system, (numbers, [], [rest_of(system)])
+
+
+def some_counters(chance):
+    """A system of boxes that are counted down, by chance, and sometimes set or read anew."""
+    boxes, places = ("x", "y"), ("a", "b")[:chance.randint(1, 2)]
+    rows = []
+    for _ in range(chance.randint(1, 4)):
+        box = chance.choice(boxes)
+        sets = [(box, line(-chance.choice((1, 2, 3)), **{box: 1}))]
+        if chance.random() < 0.3:
+            sets.append((boxes[1 - boxes.index(box)], chance.choice((None, line(1, x=1), line(4), line(0, y=2)))))
+        rows.append((chance.choice(places), chance.choice(("go", "come")), (least(-chance.randint(0, 2), **{box: 1}),),
+                     tuple(sorted(sets, key=lambda pair: pair[0])), chance.choice(places)))
+    begins = tuple(least(chance.randint(0, 9), **{box: -1}) for box in boxes if chance.random() < 0.4)
+    fair = tuple(sorted({row[1] for row in rows if chance.random() < 0.3}))
+    return (boxes, begins, (("m", places, tuple(rows)),), fair)

@@ -6,7 +6,8 @@ import pathlib
 import unittest
 
 FOLDER = pathlib.Path(__file__).resolve().parent.parent / "glassladder"
-CONSTANTS = {"shares": {"NOUGHT": (0, 1), "ONE": (1, 1)}, "drifting": {"MOST_LAPS": 1000}}
+CONSTANTS = {"shares": {"NOUGHT": (0, 1), "ONE": (1, 1)}, "drifting": {"MOST_LAPS": 1000},
+             "ladder": {"RUNGS": ("unasked", "together")}}
 FUNCTIONS = {
     "shares": {
         "is_share": "(thing)", "share": "(top, bottom=1)", "plus": "(one, other)", "minus": "(one, other)",
@@ -56,12 +57,23 @@ FUNCTIONS = {
     },
     "unasked": {"unasked": "(system, saying)"},
     "together": {"together": "(system, saying)"},
+    "joining": {"behind_one_another": "(rungs)", "joined_up": "(rung, saying, paper)"},
+    "through": {
+        "table": "(system, saying, wishes)", "begins_of": "(begin)", "sought_by": "(system, saying, found, ranks)",
+    },
+    "leading": {"led_back": "(system, path)", "led_begin": "(system, steps)"},
+    "breaking": {"is_breaking": "(system, saying, thing)"},
 }
 CLASSES = {
     ("real", "Real"): {
         "__init__": "(self, system, numbers)", "do": "(self, step, *, reads=None)", "back": "(self)", "stand": "(self)",
         "granted": "(self)", "done": "(self)", "system": "(self)", "twin": "(self)", "__len__": "(self)",
         "__eq__": "(self, other)",
+    },
+    ("ladder", "Ladder"): {
+        "__init__": "(self, system, saying, *, rungs=('unasked', 'together'), laps=2, rounds=20)",
+        "go": "(self, many=1)", "helped": "(self, thing)", "word": "(self)", "gone": "(self)", "wishes": "(self)",
+        "ranks": "(self)", "rungs": "(self)", "paper": "(self)", "run": "(self)", "twin": "(self)", "__len__": "(self)",
     },
 }
 
