@@ -97,3 +97,12 @@ def system_called(system, order):
     others = tuple((called(machines[at][0]), tuple(called(place) for place in machines[at][1]),
                     tuple(row_called(row) for row in machines[at][2])) for at in order)
     return (tuple(sorted(map(called, boxes))), wishes_called(begins), others, tuple(sorted(map(called, fair))))
+
+
+def saying_called(saying):
+    """A saying with its names called otherwise."""
+    if saying[0] in ("place", "deed"):
+        return saying[:1] + tuple("rest" if name == "rest" else called(name) for name in saying[1:])
+    if saying[0] == "wish":
+        return ("wish", wishes_called((saying[1],))[0])
+    return saying[:1] + tuple(saying_called(half) for half in saying[1:])

@@ -63,6 +63,12 @@ FUNCTIONS = {
     },
     "leading": {"led_back": "(system, path)", "led_begin": "(system, steps)"},
     "breaking": {"is_breaking": "(system, saying, thing)"},
+    "watchers": {"watched": "(system, saying, run)"},
+    "wordtexts": {"show_line": "(line)", "show_wish": "(wish)"},
+    "texts": {
+        "show_system": "(system)", "show_saying": "(saying)", "show_run": "(run)", "read_line": "(text)",
+        "read_wish": "(text)", "read_system": "(text)", "read_saying": "(text)", "read_run": "(text)",
+    },
 }
 CLASSES = {
     ("real", "Real"): {
@@ -75,6 +81,19 @@ CLASSES = {
         "go": "(self, many=1)", "helped": "(self, thing)", "word": "(self)", "gone": "(self)", "wishes": "(self)",
         "ranks": "(self)", "rungs": "(self)", "paper": "(self)", "run": "(self)", "twin": "(self)", "__len__": "(self)",
     },
+    ("watchers", "Watcher"): {
+        "__init__": "(self, system, saying, *, knowing=None)", "tell": "(self, letter)", "said": "(self)",
+        "atoms": "(self)", "letters": "(self)", "twin": "(self)", "__len__": "(self)",
+    },
+    ("house", "House"): {
+        "__init__": "(self, system, *, rungs=('unasked', 'together'), laps=2, rounds=12)",
+        "put": "(self, name, saying)", "drop": "(self, name)", "other_row": "(self, machine, number, other)",
+        "begins": "(self, wishes)",
+        "together": "(self, deeds)", "back": "(self, *, many=1)", "system": "(self)", "sayings": "(self)",
+        "word": "(self, name)", "way": "(self, name)", "paper": "(self, name)", "run": "(self, name)",
+        "asks": "(self, name)", "log": "(self)", "twin": "(self)", "__len__": "(self)", "__eq__": "(self, other)",
+    },
+    ("desk", "Desk"): {"__init__": "(self)", "say": "(self, row)", "__len__": "(self)"},
 }
 
 

@@ -17,7 +17,7 @@ from glassladder.steps import wishes_of
 from glassladder.through import sought_by, table
 from glassladder.together import together
 from glassladder.unasked import unasked
-from tests.machines import SYSTEM, called, system_called, some_system, wishes_called, with_part
+from tests.machines import SYSTEM, saying_called, some_system, system_called, with_part
 from tests.papers import atoms_over, rounds_of, some_saying_over, some_small_system
 from tests.runs import some_counters, some_drifting_system
 from tests.samples import above, anything_but, chance_of, just, least, line
@@ -448,15 +448,6 @@ def lines_along(system, saying, found, lap):
                 wishes.extend([atoms[n][1]] if truth else contraries(atoms[n][1]))
     lines = [one for word, one in wishes]
     return lines + [line_plus(one, other) for one in lines for other in lines]
-
-
-def saying_called(saying):
-    """A saying with its names called otherwise."""
-    if saying[0] in ("place", "deed"):
-        return saying[:1] + tuple("rest" if name == "rest" else called(name) for name in saying[1:])
-    if saying[0] == "wish":
-        return ("wish", wishes_called((saying[1],))[0])
-    return saying[:1] + tuple(saying_called(half) for half in saying[1:])
 
 
 class Promises(Case):

@@ -154,18 +154,19 @@ class Names(unittest.TestCase):
                 self.assertNotIn(name, taken, where)
 
     def test_builtins(self):
+        bound = {name for where, name in bound_names()}
         for stem, tree in TREES.items():
-            known = set(defined_in(tree)) | {name for where, name in bound_names()} | set(BUILTINS)
+            known = set(defined_in(tree)) | bound | set(BUILTINS)
             known |= {alias.name for node in imports_of(tree) for alias in node.names}
             for node in ast.walk(tree):
                 if isinstance(node, ast.Name):
                     self.assertIn(node.id, known, (stem, node.lineno))
 
     def test_methods_and_attributes(self):
-        own = {name for owner, name in methods()}
-        self.assertEqual(own & stored_attributes(), set())
+        own, stored = {name for owner, name in methods()}, stored_attributes()
+        self.assertEqual(own & stored, set())
         for where, node in nodes(ast.Attribute):
-            self.assertIn(node.attr, own | stored_attributes() | set(METHODS), where)
+            self.assertIn(node.attr, own | stored | set(METHODS), where)
         for owner, name in methods():
             self.assertTrue(name in DUNDERS or not name.startswith("_"), (owner, name))
 
@@ -179,8 +180,9 @@ class Code(unittest.TestCase):
     def test_statements(self):
         for where, node in nodes(ast.stmt):
             self.assertIsInstance(node, STATEMENTS, where)
+        ahead = {one for tree in TREES.values() for one in tree.body}
         for where, node in nodes(ast.ImportFrom):
-            self.assertIn(node, [one for tree in TREES.values() for one in tree.body], where)
+            self.assertIn(node, ahead, where)
         for where, node in nodes(ast.FunctionDef):
             self.assertEqual(node.decorator_list, [], where)
             self.assertEqual(node.args.posonlyargs, [], where)
@@ -213,7 +215,13 @@ class Code(unittest.TestCase):
                 self.assertIsInstance(node.exc, ast.Call, where)
                 self.assertIn(node.exc.func.id, own, where)
         for where, node in nodes(ast.ExceptHandler):
-            self.assertIn(node.type.id, own | {"KeyError", "ZeroDivisionError"}, where)
+            for one in node.type.elts if isinstance(node.type, ast.Tuple) else [node.type]:
+                self.assertIn(one.id, own | {"KeyError", "ZeroDivisionError"}, where)
+
+    def test_finally(self):
+        for where, node in nodes(ast.Try):
+            for one in node.finalbody:
+                self.assertRegex(ast.unparse(one), r"\Aself\.[a-z_]+\.append\('[a-z]+'\)\Z", where)
 
     def test_views_are_iterated_at_once(self):
         for where, node in nodes(ast.Assign):
