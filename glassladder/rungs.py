@@ -4,7 +4,7 @@ from glassladder.errors import NoSystem, NotShown
 from glassladder.granting import follows
 from glassladder.lines import names_of
 from glassladder.moves import (
-    all_steps, one_of_each, places_behind, rest_of, rows_with, sets_done, steps_at_of, wishes_done,
+    all_steps, one_of_each, places_behind, rest_of, rows_from, rows_with, sets_done, steps_at_of, wishes_done,
 )
 from glassladder.sayings import HALVES, atoms_of, look_at_saying
 from glassladder.shares import is_below
@@ -103,13 +103,25 @@ def is_very_step(rung, step, other):
     return all([is_very_set(upper_sets, lower_sets, box) for box in lower[0]])
 
 
+def steps_between(system, places, deed, behind):
+    """The steps of a deed from places, but for some that don't lead to the places behind."""
+    numbers = []
+    for machine, place, to in zip(system[2], places, behind):
+        some = rows_from(machine, place, deed)
+        numbers.append([number for number in some if number is None or machine[2][number][4] == to])
+    return [(deed, rows) for rows in one_of_each(numbers)]
+
+
 def led_step(rung, step):
     """The lower step to which an upper one is led."""
     word, upper, lower, meaning = rung
     if step[0] not in deeds_in(lower[2]):
         return rest_of(lower)
-    places = led_places(rung, home_of(upper, step))
-    some = those_that_fit(rung, step, places, steps_at_of(lower, places, step[0]))
+    home = home_of(upper, step)
+    places = led_places(rung, home)
+    # Machines that know a deed together may have thousands of its steps from there: most lead elsewhere.
+    others = steps_between(lower, places, step[0], led_places(rung, places_behind(upper, home, step)))
+    some = those_that_fit(rung, step, places, others)
     for other in some:
         if is_very_step(rung, step, other):
             return other

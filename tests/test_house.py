@@ -303,6 +303,7 @@ class Together(Case):
         wrong += [("put", "a"), ("put", "a", TICKS, 1), ("drop",), ("drop", "falls", 1), ("row", 0, 0), ("begins",),
                   ("row", 0, 0, UP, 1), ("begins", (), ()), ("back",), ("back", 1), ("together", []), ["drop", "falls"],
                   ("less", "falls"), ("system", SYSTEM_DOWN), (["put"], "a", TICKS)]
+        wrong.append(())
         lists = [[good, ("drop", "none"), one] for one in wrong] + [(good,), {"put": good}, good, "put"]
         for deeds in anything_but([]) + lists:
             with self.assertRaises(NoDeeds) as caught:

@@ -242,6 +242,33 @@ class JoinedUp(unittest.TestCase):
         places = [("a", "c"), ("a", "d"), ("a", "e"), ("b", "c"), ("b", "d"), ("b", "e")]
         self.assertEqual(up[0], [(some, 0, ()) for some in places] + [((None, one), 1, ()) for one in ("c", "d", "e")])
 
+    def test_a_machine_of_one_place(self):
+        # None, or the only place: each fits the other one, below and above.
+        one = ("one", ("a",), (("a", "go", (), (), "a"),))
+        ring = ("ring", ("p", "q"), (("p", "turn", (), (), "q"), ("q", "turn", (), (), "p")))
+        for machines in ((one, ring), (ring, one)):
+            upper = ((), (), machines, ())
+            rung = together(upper, ("deed", "go"))
+            saying = ("always", ("ever", ("yes",)))
+            paper = ([((None, None), 0, ()), (tuple(machine[1][0] for machine in rung[2][2]), 0, ())], ("to", 0), [
+                [(step, 0, ("to", 1)) for step in steps_from(rung[2], ("a", "p") if machines[0] == one else ("p",
+                "a"))],
+                [(step, 0, ("to", 0)) for step in steps_from(rung[2], ("a", "p") if machines[0] == one else ("p",
+                "a"))],
+            ], ("lot", 0))
+            self.assertIsNone(look_at_joined(rung[2], saying, paper))
+            up = joined_up(rung, saying, paper)
+            fans = {step[0]: fan for step, n, fan in up[2][0]}
+            # By go nothing is known of the ring: none of its places fits for sure. By turn it is.
+            self.assertEqual((fans["go"], fans["rest"], fans["turn"][0]), (("barred",), ("barred",), "to"))
+            alone = ((), (), (one,), ())
+            rung = together(alone, ("deed", "go"))
+            paper = ([((None,), 0, ()), (("a",), 0, ())], ("to", 0), [
+                [(step, 0, ("to", 1)) for step in steps_from(alone, ("a",))],
+                [(step, 0, ("to", 0)) for step in steps_from(alone, ("a",))]], ("lot", 0))
+            self.assertIsNone(look_at_joined(alone, saying, paper))
+            self.assertEqual(joined_up(rung, saying, paper), paper)
+
     def test_not_shown(self):
         for saying in (("place", "door", "ajar"), ("deed", "turn"), ("deed", "rest"), ("place", "clock", "tick"),
                        ("always", ("or", ("place", "door", "wide"), ("yes",)))):

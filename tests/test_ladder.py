@@ -8,7 +8,8 @@ from glassladder.errors import NoHelp, NoSaying, NoSystem, TooMany
 from glassladder.granting import can_be, contraries
 from glassladder.joining import behind_one_another
 from glassladder.ladder import RUNGS, Ladder
-from glassladder.lines import line_plus
+from glassladder.leading import led_back, led_begin
+from glassladder.lines import line_plus, line_times
 from glassladder.looker import look_at_joined
 from glassladder.made import machine_of
 from glassladder.rungs import is_rung, led_saying
@@ -84,8 +85,11 @@ class Made(Case):
         for thing in anything_but():
             with self.assertRaises(NoSystem):
                 Ladder(thing, thing)
-            with self.assertRaises(NoSaying):
-                Ladder(SYSTEM, thing)
+            with self.assertRaises(NoSystem):
+                Ladder(thing, ("yes",), rungs=(), rounds=0)
+            for way in WAYS:
+                with self.assertRaises(NoSaying):
+                    Ladder(SYSTEM, thing, rungs=way, rounds=0)
 
     def test_rungs_one_behind_the_other(self):
         idle = ("idle", ("p", "q"), (("p", "tick", (), (), "q"), ("q", "tick", (), (), "p")))
@@ -291,6 +295,61 @@ class Words(Case):
             self.assertNotEqual(ladder.word(), "holds")
             self.assertIn(ladder.word(), (word, "going", "open"))
 
+    def test_a_run_that_is_not_let_by(self):
+        # It counts and breaks what is never so; but an atom of that turns behind more laps than are looked at.
+        system = counter(low=0, by=-1, begins=(just(0, x=1),), fair=("down",))
+        for bound, word in ((900, "broken"), (1500, "open")):
+            saying = ("and", ("not", ("yes",)), ("wish", least(bound, x=-1)))
+            for way in WAYS:
+                ladder = Ladder(system, saying, rungs=way)
+                self.assertEqual((self.told(system, saying, ladder), ladder.gone()), (word, 1))
+
+    def test_the_stem_is_led_back_with_the_laps(self):
+        # At first x is one, and `go` takes one of it: then the lap, which asks for one, is barred by both together.
+        rows = (("a", "go", (), (("x", line(-1, x=1)),), "b"), ("b", "down", (least(-1, x=1),), (), "b"))
+        system = (("x",), (just(-1, x=1),), (("m", ("a", "b"), rows),), ())
+        for laps in (1, 2, 3, 4):
+            ladder = Ladder(system, FALLS, laps=laps, rounds=1)
+            self.assertEqual(ladder.word(), "going")
+            self.assertTrue(ladder.wishes())
+            ladder.go()
+            self.assertEqual(self.told(system, FALLS, ladder), "holds")
+
+    def test_rounds_that_learn_wishes(self):
+        # Just those between the moments of the stem and so many laps, in order, scaled, but such as are there.
+        chance = chance_of(70)
+        seen = {"run": 0, "between": 0, "numbers": 0}
+        for _ in range(150):
+            system, atoms = some_case(chance)
+            saying = some_saying(chance, system, atoms, 4)
+            ladder = Ladder(system, saying, rounds=0, rungs=())
+            while ladder.word() == "going" and len(ladder.wishes()) <= 8 and ladder.gone() < 6:
+                found = table(system, saying, ladder.wishes())
+                told = sought_by(system, saying, found, ladder.ranks())
+                if told[0] == "why":
+                    break
+                choices, all_atoms = machine_of(saying)[0], atoms_of(saying)
+                stem, lap = ([(tie[3], asked(all_atoms, choices[found[0][tie[0]][1]][tie[4]][0])) for tie in some]
+                             for some in told[1:])
+                back = led_back(system, (stem, lap))[0]
+                begun = led_begin(system, stem + lap * 2)
+                before = ladder.wishes()
+                ladder.go()
+                seen["run" if back == "run" else begun[0]] += 1
+                if back == "run":
+                    self.assertIn(ladder.word(), ("broken", "open"))
+                    self.assertEqual(ladder.wishes(), before)
+                elif begun[0] == "between":
+                    more = []
+                    for wish in [wish for some in begun[1] for wish in some if wish[1][1]]:
+                        by = abs(Fraction(*wish[1][1][0][1]))
+                        one = (wish[0], line_times(wish[1], (by.denominator, by.numerator)))
+                        if one not in before + more and contraries(one)[0] not in before + more:
+                            more.append(one)
+                    self.assertEqual(ladder.wishes(), before + more)
+                    self.assertEqual(ladder.word(), "going" if more else "open")
+        self.assertGreater(min(seen.values()), 5, seen)
+
     def test_told_things_are_new(self):
         holds, broken = Ladder(counter(), FALLS), Ladder(counter(by=0), FALLS)
         for ladder in (holds, broken):
@@ -435,6 +494,12 @@ def some_saying(chance, system, atoms, most):
     if chance.random() < 0.5:
         return some_saying_over(chance, atoms, most)
     return ("not", ("always", ("ever", chance.choice(deeds))))
+
+
+def asked(atoms, asks):
+    """The wishes of a choice's asks."""
+    some = [(atoms[n][1], truth) for n, truth in asks if atoms[n][0] == "wish"]
+    return tuple(wish if truth else contraries(wish)[0] for wish, truth in some)
 
 
 def lines_along(system, saying, found, lap):

@@ -146,6 +146,29 @@ class LedBack(unittest.TestCase):
         self.barred(system, ([], [(GO, ())]))
         self.barred(system, ([], [(GO, ()), (come, ()), (GO, ())]))
 
+    def test_what_is_no_step(self):
+        system = one_row(())
+        for step in (("go", (1,)), ("come", (0,)), ("go", (None,)), ("rest", (0,)), ("go", (0, 0)), ("go", ()), None):
+            self.barred(system, ([(step, ())], [(REST, ())]))
+            self.barred(system, ([], [(step, ())]))
+
+    def test_reads_with_drifts_of_their_own(self):
+        # What is read first rises with y, what is read then stays.
+        rows = (("a", "go", (), (("x", None),), "b"), ("b", "come", (least(0, x=1, y=-1),),
+                                                       (("x", None), ("y", line(1, y=1))), "a"))
+        system = (("x", "y"), (), (("m", ("a", "b"), rows),), ())
+        lap = [(GO, (least(5, x=-1),)), (("come", (1,)), ()), (REST, (least(0, x=1), least(5, x=-1)))]
+        run = self.gone(system, ([], lap))
+        self.assertGreaterEqual(Fraction(*run[2][0][2][0][1]), 1)
+        self.assertEqual(run[2][1][2], (("x", (0, 1)),))
+        # Two boxes read at one moment: one rises, the other one falls.
+        both = one_row((("x", None), ("y", None), ("z", line(1, z=1))),
+                       wishes=(least(0, x=1, z=-1), least(0, y=-1, z=-1)), boxes=("x", "y", "z"))
+        run = self.gone(both, ([(GO, ())], [(GO, ())]))
+        drifts = dict(run[2][0][2])
+        self.assertGreaterEqual(Fraction(*drifts["x"]), 1)
+        self.assertLessEqual(Fraction(*drifts["y"]), -1)
+
     def test_real_runs_by_chance(self):
         for system, run in some_real_runs(chance_of(26), 120):
             self.gone(system, path_of(run))

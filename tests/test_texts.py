@@ -195,6 +195,8 @@ class Systems(Case):
         ):
             self.refused(read_system, text, None)
             self.assertIsNone(self.as_patterns_tell(read_system, text))
+        # Without fair its last row isn't taken for it.
+        self.refused(read_system, "boxes\nmachine m p\nrow p a p - -\nrow p b p - -\nmachine a b", None)
         # At the bounds a system comes of it.
         read_system("boxes\n" + "begin 0>=0\n" * 8 + "machine m a b c d e f\n" + "row a go a - -\n" * 8 + "fair go")
 
