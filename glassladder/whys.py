@@ -149,18 +149,21 @@ def shortest_lap(start, ties, onward):
     return min(laps, key=len)
 
 
-def lap_with_all(start, ties, inner, many, onward):
-    """A lap from an entry by ties of its piece, with all lots among them."""
+def lap_with_all(ties, inner, many, onward):
+    """A lap by ties of a piece, with all of one or more lots among them: for each lot the first tie that has it."""
     lap = []
-    here = start
     for lot in range(many):
         if not any([lot in ties[number][2] for number in lap]):
             taken = [number for number in inner if lot in ties[number][2]][0]
-            lap.extend(row_to(here, ties[taken][0], ties, onward) + [taken])
-            here = ties[taken][1]
-    if not lap:
-        return shortest_lap(start, ties, onward)
-    return lap + row_to(here, start, ties, onward)
+            between = row_to(ties[lap[-1]][1], ties[taken][0], ties, onward) if lap else []
+            lap.extend(between + [taken])
+    return lap + row_to(ties[lap[-1]][1], ties[lap[0]][0], ties, onward)
+
+
+def first_come_to(came_by, entries):
+    """That one of the entries which is come to ahead of the others."""
+    some = set(entries)
+    return [entry for entry in came_by if entry in some][0]
 
 
 def first_lacking(ties, inner, many):
@@ -185,10 +188,16 @@ def inner_numbers(ties, numbers, parts):
 
 def told_lap(came_by, ties, part, inner, many):
     """A lap of a part that has ties of all lots, and a stem that leads to it."""
-    here = set(part)
-    start = [entry for entry in came_by if entry in here][0]
     onward = numbers_by_starts(part, ties, inner)
-    return ("lap", row_back(came_by, ties, start), lap_with_all(start, ties, inner, many, onward))
+    if many:
+        lap = lap_with_all(ties, inner, many, onward)
+    else:
+        lap = shortest_lap(first_come_to(came_by, part), ties, onward)
+    # It may begin at any of its entries: so the stem is as short as can be.
+    starts = [ties[number][0] for number in lap]
+    start = first_come_to(came_by, starts)
+    at = starts.index(start)
+    return ("lap", row_back(came_by, ties, start), lap[at:] + lap[:at])
 
 
 def sought(count, begins, ties, many):

@@ -192,6 +192,17 @@ class Sought(unittest.TestCase):
     def test_no_begin_twice(self):
         self.assertEqual(self.check(3, [2, 2, 0], TIES, 2)[0], "lap")
 
+    def test_as_few_ties_as_can_be(self):
+        # The lap is the tie with the lot alone; the stem leads there.
+        self.assertEqual(self.check(2, [0], [(0, 1, ()), (1, 1, (0,)), (1, 0, ())], 1), ("lap", [0], [1]))
+        # For each lot in order the first tie with it, where no tie ahead has it, and between these the shortest way.
+        ties = [(0, 1, (0,)), (1, 2, ()), (2, 0, (1,)), (1, 0, ()), (0, 0, (1,)), (0, 2, ()), (2, 1, ())]
+        self.assertEqual(self.check(3, [0], ties, 2), ("lap", [], [0, 1, 2]))
+        self.assertEqual(self.check(3, [2], ties, 2), ("lap", [], [2, 0, 1]))
+        self.assertEqual(self.check(3, [0], ties[:2] + ties[3:], 2), ("lap", [], [0, 2, 3]))
+        self.assertEqual(self.check(2, [1], [(1, 0, ()), (0, 1, (1, 0)), (0, 0, (0,)), (1, 1, (1,))], 2),
+                         ("lap", [], [0, 1]))
+
     def test_a_lap_of_no_lots(self):
         self.assertEqual(self.check(3, [0], [(0, 1, ()), (1, 2, ()), (2, 1, ())], 0), ("lap", [0], [1, 2]))
         self.assertEqual(self.check(3, [0], [(0, 1, ()), (1, 2, ()), (0, 2, ())], 0)[0], "why")
