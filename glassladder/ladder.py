@@ -42,10 +42,11 @@ class Ladder:
 
     def go(self, many=1):
         """Goes on by so many rounds, while the word is `going`."""
-        for number in range(many):
-            if self.state == GOING:
-                self.state = self.word_behind_round()
-                self.trail.append(self.state)
+        left = many
+        while left > 0 and self.state == GOING:
+            self.state = self.word_behind_round()
+            self.trail.append(self.state)
+            left -= 1
 
     def word_behind_round(self):
         """Goes a round; told is the word behind it."""
